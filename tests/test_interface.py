@@ -3,17 +3,28 @@ import inspect
 import pathlib
 import unittest
 
-from anewhall import errors, least, pieces, reading
+from anewhall import book, desk, errors, hall, least, pieces, reading, rings
 
 PACKAGE = pathlib.Path(errors.__file__).resolve().parent
 
 CLASSES = {
     errors: ("HallError", "NoName", "NoNumber", "NoRecipe", "Full", "NoPoint", "NoRow"),
+    hall: ("Hall",),
+    desk: ("Desk",),
+}
+METHODS = {
+    hall.Hall: {
+        "put": ["name", "number"], "make": ["name", "text"], "ask": ["name"], "runs": [], "leans": ["name"],
+        "rings": [], "mark": [], "back": ["point"], "wells": [], "works": [],
+    },
+    desk.Desk: {"said": ["row"], "hall": []},
 }
 FUNCTIONS = {
     reading: {"read": ["text"]},
     pieces: {"shown": ["recipe"], "answer_of": ["recipe", "ask"], "names_of": ["recipe"]},
     least: {"least": ["wells", "works"]},
+    rings: {"led_to": ["name", "leans"], "knots_of": ["names", "leans"]},
+    book: {"told": ["hall"], "opened": ["rows"]},
 }
 LIBRARY = ("__future__", "heapq", "math", "itertools", "collections")
 OUTSIDE = ("open", "print", "input", "exec", "eval", "__import__", "hash", "id")
@@ -47,6 +58,14 @@ class InterfaceTest(unittest.TestCase):
                 with self.subTest(name=name):
                     self.assertIn(name, defined_in(module, ast.FunctionDef))
                     self.assertEqual(asked_for(getattr(module, name)), arguments)
+
+    def test_each_method_is_defined_in_its_class_with_its_arguments(self):
+        for owner, methods in METHODS.items():
+            self.assertEqual(asked_for(owner), [])
+            for name, arguments in methods.items():
+                with self.subTest(owner=owner.__name__, name=name):
+                    self.assertIn(name, vars(owner))
+                    self.assertEqual(asked_for(vars(owner)[name]), ["self"] + arguments)
 
 
 class NothingFromOutsideTest(unittest.TestCase):
